@@ -1,0 +1,86 @@
+package reclaim
+
+import "reclaim/api"
+
+// block is free, or has an object with these fields.
+type block struct {
+	taken  bool
+	fields []value
+}
+
+// freeBlock is the free block with the least number, or 0 if none is free.
+func (h *Heap) freeBlock() int {
+	for b := 1; b < len(h.blocks); b++ {
+		if !h.blocks[b].taken {
+			return b
+		}
+	}
+	return 0
+}
+
+func (h *Heap) makeObject(n int) api.Errno {
+	if n < 0 || n > api.MaxFields {
+		return api.ErrIndex
+	}
+	if h.isDeep() {
+		return api.ErrDeep
+	}
+	b := h.freeBlock()
+	if b == 0 {
+		return api.ErrFull
+	}
+	h.blocks[b] = block{taken: true, fields: make([]value, n)}
+	return h.push(value{kind: kindRef, num: b})
+}
+
+// checkField tells why v is no reference to an object with a field n.
+func (h *Heap) checkField(v value, n int) api.Errno {
+	e := checkRef(v)
+	if e != api.OK {
+		return e
+	}
+	if n < 0 || n >= len(h.blocks[v.num].fields) {
+		return api.ErrIndex
+	}
+	return api.OK
+}
+
+func (h *Heap) load(n int) api.Errno {
+	if len(h.stack) == 0 {
+		return api.ErrEmpty
+	}
+	ref := h.below(0)
+	e := h.checkField(ref, n)
+	if e != api.OK {
+		return e
+	}
+	h.pop(1)
+	return h.push(h.blocks[ref.num].fields[n])
+}
+
+func (h *Heap) store(n int) api.Errno {
+	if len(h.stack) < 2 {
+		return api.ErrEmpty
+	}
+	v := h.below(0)
+	ref := h.below(1)
+	e := h.checkField(ref, n)
+	if e != api.OK {
+		return e
+	}
+	h.pop(2)
+	h.blocks[ref.num].fields[n] = v
+	return api.OK
+}
+
+func (h *Heap) size() (int, api.Errno) {
+	if len(h.stack) == 0 {
+		return 0, api.ErrEmpty
+	}
+	ref := h.below(0)
+	e := checkRef(ref)
+	if e != api.OK {
+		return 0, e
+	}
+	return len(h.blocks[ref.num].fields), api.OK
+}

@@ -1,0 +1,70 @@
+// Package reclaim: a heap that counts late, frees little by little, and sweeps what counting misses: see DOC.md.
+package reclaim
+
+import "reclaim/api"
+
+// Heap is a heap with its stack and globals.
+type Heap struct {
+	room    int     // how many values the stack may have
+	stack   []value // the top last
+	globals []value
+	blocks  []block // entry 0 is never used, so that a block's number is its index
+}
+
+// New makes a heap (P3).
+func New(c api.Config) (*Heap, api.Errno) {
+	if !isConfig(c) {
+		return nil, api.ErrConfig
+	}
+	h := &Heap{
+		room:    c.Stack,
+		globals: make([]value, c.Globals),
+		blocks:  make([]block, c.Blocks+1),
+	}
+	return h, api.OK
+}
+
+// Do does one operation (P4 to P6).
+func (h *Heap) Do(op int, n int) (int, api.Errno) {
+	switch op {
+	case api.OpNil:
+		return 0, h.push(value{})
+	case api.OpInt:
+		return 0, h.push(value{kind: kindNumber, num: n})
+	case api.OpNew:
+		return 0, h.makeObject(n)
+	case api.OpDup:
+		return 0, h.dup(n)
+	case api.OpDrop:
+		return 0, h.drop()
+	case api.OpGet:
+		return 0, h.get(n)
+	case api.OpSet:
+		return 0, h.set(n)
+	case api.OpLoad:
+		return 0, h.load(n)
+	case api.OpStore:
+		return 0, h.store(n)
+	case api.OpSame:
+		return h.same()
+	case api.OpTake:
+		return h.take()
+	case api.OpSize:
+		return h.size()
+	case api.OpKind:
+		return h.kind()
+	}
+	return 0, api.ErrOp
+}
+
+// Gauge tells how much there is of what (P7).
+func (h *Heap) Gauge() api.Gauge { return api.Gauge{} }
+
+// Dump writes the heap down (P8).
+func (h *Heap) Dump() string { return "" }
+
+// Safepoint frees some of what can be freed (P9).
+func (h *Heap) Safepoint() int { return 0 }
+
+// Collect frees all that can be freed (P10).
+func (h *Heap) Collect() int { return 0 }
