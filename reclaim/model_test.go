@@ -3,7 +3,6 @@ package reclaim_test
 import (
 	"math/rand"
 	"strconv"
-	"strings"
 	"testing"
 
 	"reclaim/api"
@@ -11,7 +10,11 @@ import (
 )
 
 // object and thing are the model's objects and values: Go's own references stand for the heap's.
-type object struct{ fields []thing }
+type object struct {
+	block                         int
+	fields                        []thing
+	waiting, queued, extra, stuck bool
+}
 
 type thing struct {
 	kind   int
@@ -20,28 +23,23 @@ type thing struct {
 }
 
 // model does what the document says of the stack, the globals and the fields, and leaves the memory to Go.
+// What the document says of the blocks is in books_test.go.
 type model struct {
 	config  api.Config
 	stack   []thing
 	globals []thing
+	blocks  []*object // nil is a free block; block 1 is entry 0
+	queue   []*object
 }
 
-func newModel(c api.Config) *model { return &model{config: c, globals: make([]thing, c.Globals)} }
+func newModel(c api.Config) *model {
+	return &model{config: c, globals: make([]thing, c.Globals), blocks: make([]*object, c.Blocks)}
+}
 
 // playModel does operations that are known to be OK.
 func playModel(m *model, text string) {
-	for _, one := range strings.Split(text, ",") {
-		words := strings.Fields(one)
-		for op, name := range opNames {
-			if len(words) == 0 || name != words[0] {
-				continue
-			}
-			n := 0
-			if len(words) == 2 {
-				n, _ = strconv.Atoi(words[1])
-			}
-			m.do(op, n)
-		}
+	for _, c := range calls(text) {
+		m.do(c.op, c.n)
 	}
 }
 
@@ -136,7 +134,7 @@ func (m *model) do(op, n int) (int, api.Errno) {
 	case api.OpInt:
 		m.push(thing{kind: 1, number: n})
 	case api.OpNew:
-		m.push(thing{kind: 2, object: &object{make([]thing, n)}})
+		m.push(thing{kind: 2, object: m.newObject(n)})
 	case api.OpDup:
 		m.push(m.stack[len(m.stack)-1-n])
 	case api.OpDrop:
@@ -149,7 +147,7 @@ func (m *model) do(op, n int) (int, api.Errno) {
 		m.push(m.pop().object.fields[n])
 	case api.OpStore:
 		v := m.pop()
-		m.pop().object.fields[n] = v
+		m.storeField(m.pop().object, n, v)
 	case api.OpSame:
 		if m.pop() == m.pop() {
 			return 1, api.OK
@@ -164,7 +162,7 @@ func (m *model) do(op, n int) (int, api.Errno) {
 	return 0, api.OK
 }
 
-// both does an operation on the heap and on the model, and tells if they answer alike.
+// both does an operation on the heap and on the model, and tells if they answer alike and look alike then.
 func both(t *testing.T, h *reclaim.Heap, m *model, op, n int, about string) bool {
 	t.Helper()
 	wantNumber, wantErrno := m.do(op, n)
@@ -173,7 +171,7 @@ func both(t *testing.T, h *reclaim.Heap, m *model, op, n int, about string) bool
 		t.Errorf("%s: Do(%d, %d) = %d, error %d, want %d, error %d", about, op, n, number, errno, wantNumber, wantErrno)
 		return false
 	}
-	return true
+	return looksAlike(t, h, m, about+": Do("+strconv.Itoa(op)+", "+strconv.Itoa(n)+")")
 }
 
 // drain looks at all that the roots lead to at a distance of one field, and empties stack and globals.

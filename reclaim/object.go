@@ -2,16 +2,26 @@ package reclaim
 
 import "reclaim/api"
 
-// block is free, or has an object with these fields.
+// The states of a block. All but the first have an object.
+const (
+	stateFree    = 0
+	stateCounted = 1
+	stateStuck   = 2
+	stateQueued  = 3
+)
+
+// block: the count is right unless the object is stuck; then nobody asks for it.
+// If an object waits or has an extra is not kept, for its state and its count tell.
 type block struct {
-	taken  bool
+	state  int
+	count  int
 	fields []value
 }
 
 // freeBlock is the free block with the least number, or 0 if none is free.
 func (h *Heap) freeBlock() int {
 	for b := 1; b < len(h.blocks); b++ {
-		if !h.blocks[b].taken {
+		if h.blocks[b].state == stateFree {
 			return b
 		}
 	}
@@ -29,7 +39,8 @@ func (h *Heap) makeObject(n int) api.Errno {
 	if b == 0 {
 		return api.ErrFull
 	}
-	h.blocks[b] = block{taken: true, fields: make([]value, n)}
+	h.makeRoomToWait()
+	h.blocks[b] = block{state: stateCounted, fields: make([]value, n)}
 	return h.push(value{kind: kindRef, num: b})
 }
 
@@ -69,8 +80,23 @@ func (h *Heap) store(n int) api.Errno {
 		return e
 	}
 	h.pop(2)
-	h.blocks[ref.num].fields[n] = v
+	h.setField(ref.num, n, v)
 	return api.OK
+}
+
+// setField counts the new value ahead of the old one (P6), so an extra that the old one gives back comes too late for the new one.
+func (h *Heap) setField(b, n int, v value) {
+	old := h.blocks[b].fields[n]
+	if sameValue(old, v) {
+		return
+	}
+	if v.kind == kindRef {
+		h.countField(v.num)
+	}
+	h.blocks[b].fields[n] = v
+	if old.kind == kindRef {
+		h.uncountField(old.num)
+	}
 }
 
 func (h *Heap) size() (int, api.Errno) {

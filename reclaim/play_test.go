@@ -1,6 +1,7 @@
 package reclaim_test
 
 import (
+	"slices"
 	"strconv"
 	"strings"
 	"testing"
@@ -28,38 +29,41 @@ func newHeap(t *testing.T, c api.Config) *reclaim.Heap {
 	return h
 }
 
-// step does one operation that is written as a text, as "new 2".
-func step(t *testing.T, h *reclaim.Heap, text string) (int, api.Errno) {
-	t.Helper()
-	words := strings.Fields(text)
-	n := 0
-	if len(words) == 2 {
-		var err error
-		n, err = strconv.Atoi(words[1])
-		if err != nil {
-			t.Fatalf("%q: %v", text, err)
+// call is an operation with its number.
+type call struct{ op, n int }
+
+// calls reads operations with commas between, as "new 2, dup 0, drop".
+func calls(text string) []call {
+	var all []call
+	for _, one := range strings.Split(text, ",") {
+		words := strings.Fields(one)
+		if len(words) == 0 {
+			continue
 		}
-	}
-	for op, name := range opNames {
-		if name == words[0] {
-			return h.Do(op, n)
+		c := call{op: slices.Index(opNames, words[0])}
+		if len(words) == 2 {
+			n, err := strconv.Atoi(words[1])
+			if err != nil {
+				panic(text)
+			}
+			c.n = n
 		}
+		if c.op < 0 || len(words) > 2 {
+			panic(text)
+		}
+		all = append(all, c)
 	}
-	t.Fatalf("%q is no operation", text)
-	return 0, api.OK
+	return all
 }
 
-// play does operations with commas between that must all be OK, and answers the number of the last.
+// play does operations that must all be OK, and answers the number of the last.
 func play(t *testing.T, h *reclaim.Heap, text string) int {
 	t.Helper()
 	last := 0
-	if text == "" {
-		return last
-	}
-	for _, one := range strings.Split(text, ",") {
-		n, e := step(t, h, one)
+	for i, c := range calls(text) {
+		n, e := h.Do(c.op, c.n)
 		if e != api.OK {
-			t.Fatalf("%q in %q: error %d", one, text, e)
+			t.Fatalf("operation %d of %q: error %d", i, text, e)
 		}
 		last = n
 	}
@@ -74,10 +78,19 @@ func want(t *testing.T, h *reclaim.Heap, text string, number int) {
 	}
 }
 
-// refuse does one operation that must answer this error.
+// refuse does one operation that must answer this error and change nothing that is seen.
 func refuse(t *testing.T, h *reclaim.Heap, text string, errno api.Errno) {
 	t.Helper()
-	if n, e := step(t, h, text); n != 0 || e != errno {
+	dump := h.Dump()
+	gauge := h.Gauge()
+	c := calls(text)[0]
+	if n, e := h.Do(c.op, c.n); n != 0 || e != errno {
 		t.Errorf("%q = %d, error %d, want 0, error %d", text, n, e, errno)
+	}
+	if after := h.Dump(); after != dump {
+		t.Errorf("%q, error %d: Dump %q became %q", text, errno, dump, after)
+	}
+	if after := h.Gauge(); after != gauge {
+		t.Errorf("%q, error %d: Gauge %+v became %+v", text, errno, gauge, after)
 	}
 }

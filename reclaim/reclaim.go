@@ -6,9 +6,12 @@ import "reclaim/api"
 // Heap is a heap with its stack and globals.
 type Heap struct {
 	room    int     // how many values the stack may have
+	zero    int     // how many objects may wait
+	over    int     // how many objects may have an extra
 	stack   []value // the top last
 	globals []value
 	blocks  []block // entry 0 is never used, so that a block's number is its index
+	queue   []int   // blocks' numbers, the first first
 }
 
 // New makes a heap (P3).
@@ -18,6 +21,8 @@ func New(c api.Config) (*Heap, api.Errno) {
 	}
 	h := &Heap{
 		room:    c.Stack,
+		zero:    c.Zero,
+		over:    c.Over,
 		globals: make([]value, c.Globals),
 		blocks:  make([]block, c.Blocks+1),
 	}
@@ -56,12 +61,6 @@ func (h *Heap) Do(op int, n int) (int, api.Errno) {
 	}
 	return 0, api.ErrOp
 }
-
-// Gauge tells how much there is of what (P7).
-func (h *Heap) Gauge() api.Gauge { return api.Gauge{} }
-
-// Dump writes the heap down (P8).
-func (h *Heap) Dump() string { return "" }
 
 // Safepoint frees some of what can be freed (P9).
 func (h *Heap) Safepoint() int { return 0 }
