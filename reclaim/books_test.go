@@ -1,6 +1,7 @@
 package reclaim_test
 
 import (
+	"slices"
 	"strconv"
 	"strings"
 	"testing"
@@ -54,8 +55,9 @@ func (m *model) gauge() api.Gauge {
 }
 
 // wait: o is to wait, and does not yet.
-func (m *model) wait(o *object) {
+func (m *model) wait(o *object, by string) {
 	if m.gauge().Waiting == m.config.Zero {
+		m.did["sorting by "+by]++
 		m.sort()
 	}
 	o.waiting = true
@@ -65,22 +67,29 @@ func (m *model) sort() {
 	for _, o := range m.blocks {
 		if o != nil && o.waiting && !m.isRoot(o) {
 			o.waiting = false
-			o.queued = true
-			m.queue = append(m.queue, o)
+			m.enqueue(o)
 		}
 	}
 }
 
+func (m *model) enqueue(o *object) {
+	o.queued = true
+	m.queue = append(m.queue, o)
+}
+
+// needsCollection: the model has none yet, so it makes no object then.
+func (m *model) needsCollection() bool { return m.gauge().Free == 0 && len(m.queue) == 0 }
+
 func (m *model) newObject(n int) *object {
-	for i, there := range m.blocks {
-		if there == nil {
-			o := &object{block: i + 1, fields: make([]thing, n)}
-			m.wait(o)
-			m.blocks[i] = o
-			return o
-		}
+	if m.gauge().Free == 0 {
+		m.did["freeing by OpNew"]++
+		m.freeFirst()
 	}
-	panic("the model does not free blocks")
+	i := slices.Index(m.blocks, nil)
+	o := &object{block: i + 1, fields: make([]thing, n)}
+	m.wait(o, "OpNew")
+	m.blocks[i] = o
+	return o
 }
 
 func (m *model) storeField(holder *object, n int, v thing) {
@@ -93,19 +102,58 @@ func (m *model) storeField(holder *object, n int, v thing) {
 		if !o.stuck && m.count(o) == api.MaxCount {
 			o.extra = m.gauge().Extras < m.config.Over
 			o.stuck = !o.extra
+			m.did["MaxCount and one more"]++
 		}
 	}
 	holder.fields[n] = v
-	if old == nil || old.stuck {
-		return
+	if old != nil && m.lost(old, "OpStore") {
+		m.wait(old, "OpStore")
 	}
-	count := m.count(old)
+}
+
+// lost: one field less is a reference to o. It tells if o, not being stuck, has the count 0 now.
+func (m *model) lost(o *object, by string) bool {
+	if o.stuck {
+		m.did["stuck passed over by "+by]++
+		return false
+	}
+	count := m.count(o)
 	if count == api.MaxCount {
-		old.extra = false
+		m.did["extra back by "+by]++
+		o.extra = false
 	}
-	if count == 0 {
-		m.wait(old)
+	return count == 0
+}
+
+func (m *model) freeFirst() {
+	first := m.queue[0]
+	for i := range first.fields {
+		o := first.fields[i].object
+		first.fields[i] = thing{}
+		if o == nil || !m.lost(o, "freeing") {
+			continue
+		}
+		if m.isRoot(o) {
+			m.did["waiting by freeing"]++
+			m.wait(o, "freeing")
+			continue
+		}
+		m.did["queued by freeing"]++
+		m.enqueue(o)
 	}
+	m.queue = m.queue[1:]
+	m.blocks[first.block-1] = nil
+}
+
+func (m *model) safepoint() int {
+	m.sort()
+	for i := 0; i < m.config.Budget; i++ {
+		if len(m.queue) == 0 {
+			return i
+		}
+		m.freeFirst()
+	}
+	return m.config.Budget
 }
 
 func (v thing) String() string {

@@ -30,10 +30,11 @@ type model struct {
 	globals []thing
 	blocks  []*object // nil is a free block; block 1 is entry 0
 	queue   []*object
+	did     map[string]int // how often what happened
 }
 
 func newModel(c api.Config) *model {
-	return &model{config: c, globals: make([]thing, c.Globals), blocks: make([]*object, c.Blocks)}
+	return &model{config: c, globals: make([]thing, c.Globals), blocks: make([]*object, c.Blocks), did: map[string]int{}}
 }
 
 // playModel does operations that are known to be OK.
@@ -43,8 +44,8 @@ func playModel(m *model, text string) {
 	}
 }
 
-// reachable counts the objects that the roots lead to.
-func (m *model) reachable() int {
+// reachable: the objects that the roots lead to.
+func (m *model) reachable() map[*object]bool {
 	seen := map[*object]bool{}
 	todo := append(append([]thing{}, m.stack...), m.globals...)
 	for len(todo) > 0 {
@@ -55,7 +56,7 @@ func (m *model) reachable() int {
 			todo = append(todo, v.object.fields...)
 		}
 	}
-	return len(seen)
+	return seen
 }
 
 // check tells why an operation is refused; the errors come in the order of the document.
@@ -94,7 +95,7 @@ func (m *model) check(op, n int) api.Errno {
 	}
 	switch op {
 	case api.OpNew:
-		if m.reachable() == m.config.Blocks {
+		if len(m.reachable()) == m.config.Blocks {
 			return api.ErrFull
 		}
 	case api.OpTake:
@@ -125,6 +126,9 @@ func (m *model) pop() thing {
 func (m *model) push(v thing) { m.stack = append(m.stack, v) }
 
 func (m *model) do(op, n int) (int, api.Errno) {
+	if op == opSafe {
+		return m.safepoint(), api.OK
+	}
 	if e := m.check(op, n); e != api.OK {
 		return 0, e
 	}
@@ -162,11 +166,18 @@ func (m *model) do(op, n int) (int, api.Errno) {
 	return 0, api.OK
 }
 
-// both does an operation on the heap and on the model, and tells if they answer alike and look alike then.
+func doOrSafe(h *reclaim.Heap, op, n int) (int, api.Errno) {
+	if op == opSafe {
+		return h.Safepoint(), api.OK
+	}
+	return h.Do(op, n)
+}
+
+// both does an operation, or a Safepoint, on the heap and on the model, and tells if they answer alike and look alike then.
 func both(t *testing.T, h *reclaim.Heap, m *model, op, n int, about string) bool {
 	t.Helper()
 	wantNumber, wantErrno := m.do(op, n)
-	number, errno := h.Do(op, n)
+	number, errno := doOrSafe(h, op, n)
 	if number != wantNumber || errno != wantErrno {
 		t.Errorf("%s: Do(%d, %d) = %d, error %d, want %d, error %d", about, op, n, number, errno, wantNumber, wantErrno)
 		return false
@@ -213,7 +224,7 @@ func look(t *testing.T, h *reclaim.Heap, m *model, about string) {
 
 // drawOp draws an operation, or none now and then; those that make, copy and follow references come more often.
 func drawOp(draw *rand.Rand) int {
-	often := []int{api.OpNew, api.OpNew, api.OpDup, api.OpDup, api.OpDup, api.OpGet, api.OpLoad, api.OpStore, api.OpStore}
+	often := []int{api.OpNew, api.OpNew, api.OpDup, api.OpDup, api.OpDup, api.OpGet, api.OpLoad, api.OpStore, api.OpStore, opSafe}
 	k := draw.Intn(15 + len(often))
 	if k < 15 {
 		return k - 1
@@ -221,58 +232,43 @@ func drawOp(draw *rand.Rand) int {
 	return often[k-15]
 }
 
-// walk: many operations, drawn from a fixed seed, answer as the model's do.
-// No more than news objects are made.
-func walk(t *testing.T, c api.Config, seed int64, news int) {
+// step does a drawn operation on both, unless it were an OpNew that needs a collection.
+func step(t *testing.T, h *reclaim.Heap, m *model, draw *rand.Rand, about string) bool {
 	t.Helper()
-	h := newHeap(t, c)
-	m := newModel(c)
-	draw := rand.New(rand.NewSource(seed))
-	about := "seed " + strconv.FormatInt(seed, 10)
-	for i := 0; i < 600; i++ {
-		op := drawOp(draw)
-		n := draw.Intn(7) - 1
-		if op == api.OpNew && m.check(op, n) == api.OK {
-			if news == 0 {
-				continue
-			}
-			news--
-		}
-		if !both(t, h, m, op, n, about+", step "+strconv.Itoa(i)) {
-			return
-		}
+	op := drawOp(draw)
+	n := draw.Intn(7) - 1
+	if op == api.OpNew && m.check(op, n) == api.OK && m.needsCollection() {
+		return true
 	}
+	return both(t, h, m, op, n, about)
 }
 
-// TestDoAsModel makes no more objects than there are blocks, so that nothing needs to be freed.
+// TestDoAsModel: many operations, drawn from fixed seeds, answer as the model's do.
 func TestDoAsModel(t *testing.T) {
 	for seed := int64(0); seed < 300; seed++ {
-		draw := rand.New(rand.NewSource(-1 - seed))
+		draw := rand.New(rand.NewSource(seed))
 		c := api.Config{Blocks: 1 + draw.Intn(99), Stack: 1 + draw.Intn(16), Globals: draw.Intn(9), Budget: 1 + draw.Intn(99), Over: draw.Intn(10)}
 		c.Zero = c.Stack + c.Globals + 1 + draw.Intn(99-c.Stack-c.Globals)
-		walk(t, c, seed, c.Blocks)
+		h := newHeap(t, c)
+		m := newModel(c)
+		for i := 0; i < 600; i++ {
+			if !step(t, h, m, draw, "seed "+strconv.FormatInt(seed, 10)+", step "+strconv.Itoa(i)) {
+				return
+			}
+		}
 	}
 }
 
-// TestDoOnOwnCallsAlone: two heaps that are called by turns answer as each of them does alone.
-func TestDoOnOwnCallsAlone(t *testing.T) {
+// TestOnOwnCallsAlone: heaps that are called by turns answer as each of them does alone (P2).
+func TestOnOwnCallsAlone(t *testing.T) {
 	for seed := int64(0); seed < 50; seed++ {
-		c := api.Config{Blocks: 99, Stack: 5, Globals: 3, Budget: 1, Zero: 9, Over: 1}
+		c := api.Config{Blocks: 20, Stack: 5, Globals: 3, Budget: 1, Zero: 9, Over: 1}
 		heaps := []*reclaim.Heap{newHeap(t, c), newHeap(t, c), newHeap(t, c)}
 		models := []*model{newModel(c), newModel(c), newModel(c)}
 		draw := rand.New(rand.NewSource(seed))
-		news := []int{99, 99, 99}
 		for i := 0; i < 900; i++ {
 			k := draw.Intn(3)
-			op := drawOp(draw)
-			n := draw.Intn(6) - 1
-			if op == api.OpNew {
-				if news[k] == 0 {
-					continue
-				}
-				news[k]--
-			}
-			if !both(t, heaps[k], models[k], op, n, "heap "+strconv.Itoa(k)) {
+			if !step(t, heaps[k], models[k], draw, "heap "+strconv.Itoa(k)) {
 				return
 			}
 		}

@@ -28,6 +28,16 @@ func (h *Heap) freeBlock() int {
 	return 0
 }
 
+// blockToFill is the block for a new object, or 0 if there is none.
+func (h *Heap) blockToFill() int {
+	b := h.freeBlock()
+	if b == 0 && len(h.queue) > 0 {
+		h.freeFirst()
+		b = h.freeBlock()
+	}
+	return b
+}
+
 func (h *Heap) makeObject(n int) api.Errno {
 	if n < 0 || n > api.MaxFields {
 		return api.ErrIndex
@@ -35,7 +45,7 @@ func (h *Heap) makeObject(n int) api.Errno {
 	if h.isDeep() {
 		return api.ErrDeep
 	}
-	b := h.freeBlock()
+	b := h.blockToFill()
 	if b == 0 {
 		return api.ErrFull
 	}

@@ -17,6 +17,9 @@ const (
 
 var opNames = []string{"nil", "int", "new", "dup", "drop", "get", "set", "load", "store", "same", "take", "size", "kind"}
 
+// opSafe stands for a Safepoint among operations.
+const opSafe = 1000
+
 // example is the configuration of the document's examples.
 var example = api.Config{Blocks: 3, Stack: 4, Globals: 1, Budget: 1, Zero: 6, Over: 0}
 
@@ -29,10 +32,10 @@ func newHeap(t *testing.T, c api.Config) *reclaim.Heap {
 	return h
 }
 
-// call is an operation with its number.
+// call is an operation with its number, or a Safepoint with the number that it must answer.
 type call struct{ op, n int }
 
-// calls reads operations with commas between, as "new 2, dup 0, drop".
+// calls reads operations with commas between, as "new 2, dup 0, drop, safe 1".
 func calls(text string) []call {
 	var all []call
 	for _, one := range strings.Split(text, ",") {
@@ -41,6 +44,9 @@ func calls(text string) []call {
 			continue
 		}
 		c := call{op: slices.Index(opNames, words[0])}
+		if words[0] == "safe" {
+			c.op = opSafe
+		}
 		if len(words) == 2 {
 			n, err := strconv.Atoi(words[1])
 			if err != nil {
@@ -56,11 +62,17 @@ func calls(text string) []call {
 	return all
 }
 
-// play does operations that must all be OK, and answers the number of the last.
+// play does operations that must all be OK, and answers the number of the last. Each Safepoint must answer its number.
 func play(t *testing.T, h *reclaim.Heap, text string) int {
 	t.Helper()
 	last := 0
 	for i, c := range calls(text) {
+		if c.op == opSafe {
+			if freed := h.Safepoint(); freed != c.n {
+				t.Errorf("call %d of %q: Safepoint %d, want %d", i, text, freed, c.n)
+			}
+			continue
+		}
 		n, e := h.Do(c.op, c.n)
 		if e != api.OK {
 			t.Fatalf("operation %d of %q: error %d", i, text, e)

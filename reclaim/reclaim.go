@@ -6,6 +6,7 @@ import "reclaim/api"
 // Heap is a heap with its stack and globals.
 type Heap struct {
 	room    int     // how many values the stack may have
+	budget  int     // how many blocks a Safepoint may free
 	zero    int     // how many objects may wait
 	over    int     // how many objects may have an extra
 	stack   []value // the top last
@@ -21,6 +22,7 @@ func New(c api.Config) (*Heap, api.Errno) {
 	}
 	h := &Heap{
 		room:    c.Stack,
+		budget:  c.Budget,
 		zero:    c.Zero,
 		over:    c.Over,
 		globals: make([]value, c.Globals),
@@ -61,9 +63,6 @@ func (h *Heap) Do(op int, n int) (int, api.Errno) {
 	}
 	return 0, api.ErrOp
 }
-
-// Safepoint frees some of what can be freed (P9).
-func (h *Heap) Safepoint() int { return 0 }
 
 // Collect frees all that can be freed (P10).
 func (h *Heap) Collect() int { return 0 }

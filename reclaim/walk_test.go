@@ -20,7 +20,15 @@ var moves = []string{
 	"get G, new 1, store F", "get G, new 0, store F", "get G, new 0, store F", "new 1, get G, store 0",
 }
 
-func drawMove(draw *rand.Rand, globals int) string {
+// ringless moves give references to new objects alone, so an object holds none but older ones, and no ring comes of them.
+var ringless = []string{
+	"new 4, set G", "new K, set G", "nil, set G", "new K, drop", "drop", "get G, nil, store F", "get G, int 5, store F", "get G, load F, set H", "get G", "safe",
+	"new 1, get G, store 0", "new 4, dup 0, get G, store F", "new 4, dup 0, get G, store F, set H", "new 4, dup 0, get G, store 1, dup 0, get H, store 2, set G",
+	"new 4, dup 0, get 0, store 0, dup 0, get 0, store 1, dup 0, get 0, store 2, get H, store 3", "new 4, dup 0, get 0, store 0, dup 0, get 0, store 1, dup 0, get G, store 3, set G",
+	"new 4, dup 0, new K, store 0, dup 0, new 0, store 1, dup 0, get G, store 3, set G", "new 4, dup 0, get G, store 0, dup 0, get 0, store 1, dup 0, get 0, store 3, set G",
+}
+
+func drawMove(draw *rand.Rand, moves []string, globals int) string {
 	move := moves[draw.Intn(len(moves))]
 	for i, most := range []int{globals, globals, api.MaxFields, api.MaxFields + 1} {
 		letter := "GHFK"[i : i+1]
@@ -29,78 +37,153 @@ func drawMove(draw *rand.Rand, globals int) string {
 	return move
 }
 
-// seen counts what happened on walks: walks on which it never does would show nothing.
-type seen struct{ extra, back, stuck, fewer, sortedByNew, sortedByStore int }
-
-func (s *seen) note(op int, before, after api.Gauge, stuckBefore, stuckAfter int) {
-	for _, c := range []struct {
-		happened bool
-		counter  *int
-	}{
-		{after.Extras > before.Extras, &s.extra},
-		{after.Extras < before.Extras, &s.back},
-		{after.Stuck > before.Stuck, &s.stuck},
-		{after.Stuck == before.Stuck && stuckAfter < stuckBefore, &s.fewer},
-		{op == api.OpNew && after.Queued > before.Queued, &s.sortedByNew},
-		{op == api.OpStore && after.Queued > before.Queued, &s.sortedByStore},
-	} {
-		if c.happened {
-			*c.counter++
-		}
-	}
-}
-
-// heldStuck is how many fields are references to objects that are stuck.
-func (m *model) heldStuck() int {
-	n := 0
-	for _, o := range m.blocks {
-		if o != nil && o.stuck {
-			n += m.count(o)
-		}
-	}
-	return n
-}
-
-// moveAbout does moves until no block is free, and notes what happens.
-func moveAbout(t *testing.T, c api.Config, seed int64, s *seen) bool {
+// moveAbout does moves until one needs a collection. The model looks as the heap does, so what holds of it holds of the heap.
+func moveAbout(t *testing.T, c api.Config, moves []string, seed int64, did map[string]int) bool {
 	t.Helper()
 	h := newHeap(t, c)
 	m := newModel(c)
+	m.did = did
 	draw := rand.New(rand.NewSource(seed))
 	for i := 0; i < 300; i++ {
-		move := drawMove(draw, c.Globals)
+		move := drawMove(draw, moves, c.Globals)
 		if i < c.Globals {
 			move = "new 4, set " + strconv.Itoa(i)
 		}
+		about := "seed " + strconv.FormatInt(seed, 10) + ", move " + strconv.Itoa(i) + ", " + move
 		for _, one := range calls(move) {
-			before := m.gauge()
-			held := m.heldStuck()
-			if one.op == api.OpNew && before.Free == 0 {
+			if one.op == api.OpNew && m.check(one.op, one.n) == api.OK && m.needsCollection() {
 				return true
 			}
-			if !both(t, h, m, one.op, one.n, "seed "+strconv.FormatInt(seed, 10)+", move "+strconv.Itoa(i)+", "+move) {
+			due := -1
+			if one.op == opSafe {
+				due = m.due()
+			}
+			free := m.gauge().Free
+			if !both(t, h, m, one.op, one.n, about) {
 				return false
 			}
-			s.note(one.op, before, m.gauge(), held, m.heldStuck())
+			freed := m.gauge().Free - free
+			if due >= 0 && freed != due || !m.keepsObjects() {
+				t.Errorf("P12: %s: %d blocks freed, %d due: Dump %s", about, freed, due, m.dump())
+				return false
+			}
 		}
 	}
 	return true
 }
 
+// due is how many blocks P12 says that a Safepoint frees, or -1 if it says nothing.
+func (m *model) due() int {
+	unreachable := m.unreachable()
+	if m.gauge().Stuck > 0 || hasRing(unreachable) {
+		return -1
+	}
+	switch n := len(unreachable); {
+	case n < m.config.Budget:
+		m.did["fewer than Budget"]++
+	case n == m.config.Budget:
+		m.did["as many as Budget"]++
+	case n > m.config.Budget:
+		m.did["more than Budget"]++
+	}
+	return min(len(unreachable), m.config.Budget)
+}
+
+// unreachable: the objects with blocks that no root leads to.
+func (m *model) unreachable() []*object {
+	var l []*object
+	reachable := m.reachable()
+	for _, o := range m.blocks {
+		if o != nil && !reachable[o] {
+			l = append(l, o)
+		}
+	}
+	return l
+}
+
+// hasRing: some are left when those that none of the others holds are taken away, again and again.
+func hasRing(l []*object) bool {
+	for len(l) > 0 {
+		held := map[*object]bool{}
+		for _, o := range l {
+			for _, v := range o.fields {
+				held[v.object] = true
+			}
+		}
+		var left []*object
+		for _, o := range l {
+			if held[o] {
+				left = append(left, o)
+			}
+		}
+		if len(left) == len(l) {
+			return true
+		}
+		l = left
+	}
+	return false
+}
+
+// keepsObjects: nothing that is reachable or that a field holds is in the queue or has lost its block (P12).
+func (m *model) keepsObjects() bool {
+	kept := m.reachable()
+	for _, o := range m.blocks {
+		if o == nil {
+			continue
+		}
+		for _, v := range o.fields {
+			if v.object != nil {
+				kept[v.object] = true
+			}
+		}
+	}
+	for o := range kept {
+		if o.queued || m.blocks[o.block-1] != o {
+			return false
+		}
+	}
+	return true
+}
+
+// fleeting moves leave many objects behind, and holders of what the globals have among them, so that no block is free and many wait.
+var fleeting = []string{"new 0, drop", "new 0, drop", "new 1, get G, store 0", "new 2, dup 0, get G, store 0, new 0, store 1", "new 2, dup 0, new 0, store 0, get G, store 1", "new 0, set G", "get G, drop"}
+
+// happened: walks on which something never happens would show nothing of it.
+func happened(t *testing.T, did map[string]int, names ...string) {
+	t.Helper()
+	for _, name := range names {
+		if did[name] < 20 {
+			t.Errorf("%q happened too seldom: %d times", name, did[name])
+		}
+	}
+}
+
 // TestBooks: Dump and Gauge behind every operation of many moves, as the model has them (P5 to P8).
 func TestBooks(t *testing.T) {
-	var s seen
+	did := map[string]int{}
 	for seed := int64(0); seed < 300; seed++ {
 		draw := rand.New(rand.NewSource(-1 - seed))
-		c := api.Config{Blocks: 30 + draw.Intn(20), Stack: 2 + draw.Intn(2), Globals: 4 + draw.Intn(3), Budget: 1, Over: draw.Intn(3)}
+		c := conf(30+draw.Intn(20), 2+draw.Intn(2), 4+draw.Intn(3), 0, draw.Intn(3))
 		c.Zero = c.Stack + c.Globals + 1 + draw.Intn(2)
-		if !moveAbout(t, c, seed, &s) {
+		if !moveAbout(t, c, moves, seed, did) {
 			return
 		}
 	}
-	for _, n := range []int{s.extra, s.back, s.stuck, s.fewer, s.sortedByNew, s.sortedByStore} {
-		if n < 10 {
-			t.Errorf("too little happened: %+v", s)
+	happened(t, did, "MaxCount and one more", "extra back by OpStore", "stuck passed over by OpStore", "sorting by OpNew", "sorting by OpStore", "freeing by OpNew")
+}
+
+// TestFreeing: the same with Safepoints among the moves (P9, P12).
+func TestFreeing(t *testing.T) {
+	did := map[string]int{}
+	for seed := int64(0); seed < 300; seed++ {
+		draw := rand.New(rand.NewSource(-1 - seed))
+		c := conf(10+draw.Intn(40), 2+draw.Intn(2), 4+draw.Intn(3), 0, draw.Intn(3))
+		c.Zero = c.Stack + c.Globals + 1 + draw.Intn(2)
+		c.Budget = 1 + draw.Intn(4)
+		all := [][]string{ringless, fleeting, append([]string{"safe", "safe", "nil, set G", "nil, set G"}, moves...)}
+		if !moveAbout(t, c, all[seed%3], seed, did) {
+			return
 		}
 	}
+	happened(t, did, "extra back by freeing", "stuck passed over by freeing", "waiting by freeing", "queued by freeing", "freeing by OpNew", "sorting by freeing", "fewer than Budget", "as many as Budget", "more than Budget")
 }
