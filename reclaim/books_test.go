@@ -77,13 +77,12 @@ func (m *model) enqueue(o *object) {
 	m.queue = append(m.queue, o)
 }
 
-// needsCollection: the model has none yet, so it makes no object then.
-func (m *model) needsCollection() bool { return m.gauge().Free == 0 && len(m.queue) == 0 }
-
 func (m *model) newObject(n int) *object {
-	if m.gauge().Free == 0 {
+	if m.gauge().Free == 0 && len(m.queue) > 0 {
 		m.did["freeing by OpNew"]++
 		m.freeFirst()
+	} else if m.gauge().Free == 0 {
+		m.collect("OpNew")
 	}
 	i := slices.Index(m.blocks, nil)
 	o := &object{block: i + 1, fields: make([]thing, n)}
@@ -154,6 +153,53 @@ func (m *model) safepoint() int {
 		m.freeFirst()
 	}
 	return m.config.Budget
+}
+
+// collect looks at each object that is left as if it were new.
+func (m *model) collect(by string) int {
+	m.did["collection by "+by]++
+	reachable := m.reachable()
+	freed := 0
+	for i, o := range m.blocks {
+		if o != nil && !reachable[o] {
+			m.blocks[i] = nil
+			freed++
+		}
+	}
+	m.queue = nil
+	extras := 0
+	for _, o := range m.blocks {
+		if o == nil {
+			continue
+		}
+		ahead := *o
+		count := m.count(o)
+		o.waiting = count == 0
+		o.extra = count > api.MaxCount && extras < m.config.Over
+		o.stuck = count > api.MaxCount && !o.extra
+		if o.extra {
+			extras++
+		}
+		m.noteChange(ahead, *o, by)
+	}
+	return freed
+}
+
+// noteChange notes what a collection made of an object.
+func (m *model) noteChange(ahead, behind object, by string) {
+	for name, is := range map[string]bool{
+		"stuck, then counted by ":  ahead.stuck && !behind.stuck && !behind.extra && !behind.waiting,
+		"stuck, then an extra by ": ahead.stuck && behind.extra,
+		"stuck, then stuck by ":    ahead.stuck && behind.stuck,
+		"stuck, then waiting by ":  ahead.stuck && behind.waiting,
+		"an extra, then stuck by ": ahead.extra && behind.stuck,
+		"an extra, then none by ":  ahead.extra && !behind.extra,
+		"held, then waiting by ":   !ahead.stuck && !ahead.waiting && behind.waiting,
+	} {
+		if is {
+			m.did[name+by]++
+		}
+	}
 }
 
 func (v thing) String() string {

@@ -126,10 +126,16 @@ func (m *model) pop() thing {
 func (m *model) push(v thing) { m.stack = append(m.stack, v) }
 
 func (m *model) do(op, n int) (int, api.Errno) {
-	if op == opSafe {
+	switch op {
+	case opSafe:
 		return m.safepoint(), api.OK
+	case opCollect:
+		return m.collect("Collect"), api.OK
 	}
 	if e := m.check(op, n); e != api.OK {
+		if e == api.ErrFull {
+			m.collect("ErrFull")
+		}
 		return 0, e
 	}
 	switch op {
@@ -166,18 +172,11 @@ func (m *model) do(op, n int) (int, api.Errno) {
 	return 0, api.OK
 }
 
-func doOrSafe(h *reclaim.Heap, op, n int) (int, api.Errno) {
-	if op == opSafe {
-		return h.Safepoint(), api.OK
-	}
-	return h.Do(op, n)
-}
-
-// both does an operation, or a Safepoint, on the heap and on the model, and tells if they answer alike and look alike then.
+// both does an operation, a Safepoint or a Collect on the heap and on the model, and tells if they answer alike and look alike then.
 func both(t *testing.T, h *reclaim.Heap, m *model, op, n int, about string) bool {
 	t.Helper()
 	wantNumber, wantErrno := m.do(op, n)
-	number, errno := doOrSafe(h, op, n)
+	number, errno := doAny(h, op, n)
 	if number != wantNumber || errno != wantErrno {
 		t.Errorf("%s: Do(%d, %d) = %d, error %d, want %d, error %d", about, op, n, number, errno, wantNumber, wantErrno)
 		return false
@@ -224,7 +223,7 @@ func look(t *testing.T, h *reclaim.Heap, m *model, about string) {
 
 // drawOp draws an operation, or none now and then; those that make, copy and follow references come more often.
 func drawOp(draw *rand.Rand) int {
-	often := []int{api.OpNew, api.OpNew, api.OpDup, api.OpDup, api.OpDup, api.OpGet, api.OpLoad, api.OpStore, api.OpStore, opSafe}
+	often := []int{api.OpNew, api.OpNew, api.OpDup, api.OpDup, api.OpDup, api.OpGet, api.OpLoad, api.OpStore, api.OpStore, opSafe, opCollect}
 	k := draw.Intn(15 + len(often))
 	if k < 15 {
 		return k - 1
@@ -232,15 +231,11 @@ func drawOp(draw *rand.Rand) int {
 	return often[k-15]
 }
 
-// step does a drawn operation on both, unless it were an OpNew that needs a collection.
+// step does a drawn operation on both.
 func step(t *testing.T, h *reclaim.Heap, m *model, draw *rand.Rand, about string) bool {
 	t.Helper()
 	op := drawOp(draw)
-	n := draw.Intn(7) - 1
-	if op == api.OpNew && m.check(op, n) == api.OK && m.needsCollection() {
-		return true
-	}
-	return both(t, h, m, op, n, about)
+	return both(t, h, m, op, draw.Intn(7)-1, about)
 }
 
 // TestDoAsModel: many operations, drawn from fixed seeds, answer as the model's do.

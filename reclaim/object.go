@@ -31,11 +31,15 @@ func (h *Heap) freeBlock() int {
 // blockToFill is the block for a new object, or 0 if there is none.
 func (h *Heap) blockToFill() int {
 	b := h.freeBlock()
-	if b == 0 && len(h.queue) > 0 {
-		h.freeFirst()
-		b = h.freeBlock()
+	if b != 0 {
+		return b
 	}
-	return b
+	if len(h.queue) > 0 {
+		h.freeFirst()
+	} else {
+		h.Collect()
+	}
+	return h.freeBlock()
 }
 
 func (h *Heap) makeObject(n int) api.Errno {

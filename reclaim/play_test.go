@@ -17,8 +17,11 @@ const (
 
 var opNames = []string{"nil", "int", "new", "dup", "drop", "get", "set", "load", "store", "same", "take", "size", "kind"}
 
-// opSafe stands for a Safepoint among operations.
-const opSafe = 1000
+// opSafe and opCollect stand for a Safepoint and a Collect among operations.
+const (
+	opSafe    = 1000
+	opCollect = 1001
+)
 
 // example is the configuration of the document's examples.
 var example = api.Config{Blocks: 3, Stack: 4, Globals: 1, Budget: 1, Zero: 6, Over: 0}
@@ -32,10 +35,10 @@ func newHeap(t *testing.T, c api.Config) *reclaim.Heap {
 	return h
 }
 
-// call is an operation with its number, or a Safepoint with the number that it must answer.
+// call is an operation with its number, or a Safepoint or a Collect with the number that it must answer.
 type call struct{ op, n int }
 
-// calls reads operations with commas between, as "new 2, dup 0, drop, safe 1".
+// calls reads operations with commas between, as "new 2, dup 0, drop, safe 1, collect 0".
 func calls(text string) []call {
 	var all []call
 	for _, one := range strings.Split(text, ",") {
@@ -44,8 +47,11 @@ func calls(text string) []call {
 			continue
 		}
 		c := call{op: slices.Index(opNames, words[0])}
-		if words[0] == "safe" {
+		switch words[0] {
+		case "safe":
 			c.op = opSafe
+		case "collect":
+			c.op = opCollect
 		}
 		if len(words) == 2 {
 			n, err := strconv.Atoi(words[1])
@@ -62,18 +68,29 @@ func calls(text string) []call {
 	return all
 }
 
-// play does operations that must all be OK, and answers the number of the last. Each Safepoint must answer its number.
+// doAny does an operation, or what stands among the operations for another call.
+func doAny(h *reclaim.Heap, op, n int) (int, api.Errno) {
+	switch op {
+	case opSafe:
+		return h.Safepoint(), api.OK
+	case opCollect:
+		return h.Collect(), api.OK
+	}
+	return h.Do(op, n)
+}
+
+// play does operations that must all be OK, and answers the number of the last. Each Safepoint and Collect must answer its number.
 func play(t *testing.T, h *reclaim.Heap, text string) int {
 	t.Helper()
 	last := 0
 	for i, c := range calls(text) {
-		if c.op == opSafe {
-			if freed := h.Safepoint(); freed != c.n {
-				t.Errorf("call %d of %q: Safepoint %d, want %d", i, text, freed, c.n)
+		n, e := doAny(h, c.op, c.n)
+		if c.op == opSafe || c.op == opCollect {
+			if n != c.n {
+				t.Errorf("call %d of %q: %d blocks freed, want %d", i, text, n, c.n)
 			}
 			continue
 		}
-		n, e := h.Do(c.op, c.n)
 		if e != api.OK {
 			t.Fatalf("operation %d of %q: error %d", i, text, e)
 		}

@@ -63,6 +63,3 @@ func (h *Heap) Do(op int, n int) (int, api.Errno) {
 	}
 	return 0, api.ErrOp
 }
-
-// Collect frees all that can be freed (P10).
-func (h *Heap) Collect() int { return 0 }

@@ -37,7 +37,7 @@ func drawMove(draw *rand.Rand, moves []string, globals int) string {
 	return move
 }
 
-// moveAbout does moves until one needs a collection. The model looks as the heap does, so what holds of it holds of the heap.
+// moveAbout does moves on both. The model looks as the heap does, so what holds of it holds of the heap.
 func moveAbout(t *testing.T, c api.Config, moves []string, seed int64, did map[string]int) bool {
 	t.Helper()
 	h := newHeap(t, c)
@@ -51,9 +51,6 @@ func moveAbout(t *testing.T, c api.Config, moves []string, seed int64, did map[s
 		}
 		about := "seed " + strconv.FormatInt(seed, 10) + ", move " + strconv.Itoa(i) + ", " + move
 		for _, one := range calls(move) {
-			if one.op == api.OpNew && m.check(one.op, one.n) == api.OK && m.needsCollection() {
-				return true
-			}
 			due := -1
 			if one.op == opSafe {
 				due = m.due()
@@ -65,6 +62,10 @@ func moveAbout(t *testing.T, c api.Config, moves []string, seed int64, did map[s
 			freed := m.gauge().Free - free
 			if due >= 0 && freed != due || !m.keepsObjects() {
 				t.Errorf("P12: %s: %d blocks freed, %d due: Dump %s", about, freed, due, m.dump())
+				return false
+			}
+			if one.op == opCollect && len(m.unreachable()) > 0 {
+				t.Errorf("P11: %s: Dump %s", about, m.dump())
 				return false
 			}
 		}
@@ -160,6 +161,7 @@ func happened(t *testing.T, did map[string]int, names ...string) {
 
 // TestBooks: Dump and Gauge behind every operation of many moves, as the model has them (P5 to P8).
 func TestBooks(t *testing.T) {
+	t.Parallel()
 	did := map[string]int{}
 	for seed := int64(0); seed < 300; seed++ {
 		draw := rand.New(rand.NewSource(-1 - seed))
@@ -174,6 +176,7 @@ func TestBooks(t *testing.T) {
 
 // TestFreeing: the same with Safepoints among the moves (P9, P12).
 func TestFreeing(t *testing.T) {
+	t.Parallel()
 	did := map[string]int{}
 	for seed := int64(0); seed < 300; seed++ {
 		draw := rand.New(rand.NewSource(-1 - seed))
@@ -186,4 +189,39 @@ func TestFreeing(t *testing.T) {
 		}
 	}
 	happened(t, did, "extra back by freeing", "stuck passed over by freeing", "waiting by freeing", "queued by freeing", "freeing by OpNew", "sorting by freeing", "fewer than Budget", "as many as Budget", "more than Budget")
+}
+
+// crowding moves keep a chain of holders in global 3, whose objects hold those of globals 0 to 2 many times; rings fill the rest.
+var crowding = []string{
+	"new 4, dup 0, get 0, store 0, dup 0, get 0, store 1, dup 0, get 0, store 2, dup 0, get 3, store 3, set 3",
+	"new 4, dup 0, get 1, store 0, dup 0, get 1, store 1, dup 0, get 1, store 2, dup 0, get 3, store 3, set 3",
+	"new 4, dup 0, get 2, store 0, dup 0, get 2, store 1, dup 0, get 2, store 2, dup 0, get 3, store 3, set 3",
+	"new 4, dup 0, get 2, store 0, dup 0, get 1, store 1, dup 0, get 0, store 2, dup 0, get 3, store 3, set 3",
+	"new 4, dup 0, get G, store 0, dup 0, get G, store 1, dup 0, get G, store 2, get 0, store 3",
+	"new 4, dup 0, get 0, store 0, dup 0, get 1, store 1, dup 0, get 1, store 2, dup 0, get 3, store 3, set 3",
+	"new 4, dup 0, get 2, store 0, dup 0, get 2, store 1, dup 0, get 1, store 2, dup 0, get 3, store 3, set 3",
+	"get 3, load 3, set 3", "get 3, load 3, load 3, set 3", "get 3, nil, store 0", "get 3, get 0, store 1", "get 3, get 1, store 2", "get 3, get 2, store 0", "get 3, nil, store F",
+	"new 2, dup 0, dup 0, store 0, drop", "new 1, new 2, dup 1, dup 1, store 0, dup 0, dup 2, store 1, drop, drop",
+	"get 0, get 1, set 0, set 1", "get 0, get 2, set 0, set 2", "new 0, set 0", "new 4, set 1", "drop", "drop", "safe", "collect",
+}
+
+// TestCollecting: the same on heaps that are often full, with Collects among the moves (P5, P10, P11).
+func TestCollecting(t *testing.T) {
+	t.Parallel()
+	did := map[string]int{}
+	for seed := int64(0); seed < 300; seed++ {
+		draw := rand.New(rand.NewSource(-1 - seed))
+		c := conf(8+draw.Intn(25), 4+draw.Intn(2), 4+draw.Intn(2), 0, draw.Intn(3))
+		c.Zero = c.Stack + c.Globals + 1 + draw.Intn(9)
+		c.Budget = 1 + draw.Intn(4)
+		if !moveAbout(t, c, crowding, seed, did) {
+			return
+		}
+	}
+	for _, by := range []string{"Collect", "OpNew", "ErrFull"} {
+		happened(t, did, "collection by "+by, "stuck, then counted by "+by, "stuck, then an extra by "+by, "stuck, then stuck by "+by, "an extra, then stuck by "+by, "an extra, then none by "+by)
+	}
+	for _, by := range []string{"Collect", "OpNew"} {
+		happened(t, did, "stuck, then waiting by "+by, "held, then waiting by "+by)
+	}
 }
